@@ -1,0 +1,1 @@
+"""Maps from numbers to numbers, kept as versions that share their nodes."""
