@@ -47,6 +47,10 @@ def writes_of(changes):
     return [(change.key, change.behind) for change in changes]
 
 
+def inverted(changes):
+    return [Change(change.key, change.behind, change.before) for change in changes]
+
+
 def by_key(changes):
     found = {}
     for change in changes:

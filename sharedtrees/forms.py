@@ -1,12 +1,13 @@
 """How calls stand in the list handed in, and which arguments are in their ranges.
 
 A call's form is a text of one letter for each argument:
-v a held version, k a key, x a value, d a difference.
+v a held version, w a version held or not, k a key, x a value, n a place, d a difference, p pairs of a key and a value.
 """
 
 from sharedtrees.differences import Change
-from sharedtrees.limits import CHANGE_LENGTH, GREATEST_KEY, GREATEST_VALUE, LEAST_VALUE
-from sharedtrees.limits import LONGEST_DIFFERENCE, MOST_VERSIONS
+from sharedtrees.limits import CHANGE_LENGTH, GREATEST_KEY, GREATEST_PLACE, GREATEST_VALUE, LEAST_VALUE
+from sharedtrees.limits import LONGEST_DIFFERENCE, LONGEST_PAIRS, MOST_VERSIONS, PAIR_LENGTH
+from sharedtrees.nodes import Leaf
 
 
 class Reader:
@@ -29,7 +30,7 @@ class Reader:
         return self.numbers_read[start:self.place]
 
     def take_arguments(self, form):
-        return [self.take_numbers() if letter == "d" else self.take_number() for letter in form]
+        return [self.take_numbers() if letter in "dp" else self.take_number() for letter in form]
 
 
 def is_key(number):
@@ -60,22 +61,28 @@ def are_told_changes(numbers):
     return True
 
 
+def are_told_pairs(numbers):
+    if len(numbers) > LONGEST_PAIRS or len(numbers) % PAIR_LENGTH != 0:
+        return False
+    return all([is_key(pair[0]) and is_value(pair[1]) for pair in read_pairs(numbers)])
+
+
 def is_in_range(letter, argument):
-    if letter == "v":
+    if letter in "vw":
         return 0 <= argument < MOST_VERSIONS
     if letter == "k":
         return is_key(argument)
     if letter == "x":
         return is_value(argument)
+    if letter == "n":
+        return 0 <= argument <= GREATEST_PLACE
+    if letter == "p":
+        return are_told_pairs(argument)
     return are_told_changes(argument)
 
 
 def are_in_range(form, arguments):
     return all([is_in_range(letter, argument) for letter, argument in zip(form, arguments)])
-
-
-def versions_named(form, arguments):
-    return [argument for letter, argument in zip(form, arguments) if letter == "v"]
 
 
 def read_value(present, value):
@@ -89,6 +96,10 @@ def read_changes(numbers):
         behind = read_value(numbers[place + 3], numbers[place + 4])
         changes.append(Change(numbers[place], before, behind))
     return changes
+
+
+def read_pairs(numbers):
+    return [(numbers[place], numbers[place + 1]) for place in range(0, len(numbers), PAIR_LENGTH)]
 
 
 def tell_value(value):
@@ -119,3 +130,15 @@ def tell_pairs(pairs):
     for pair in pairs:
         told.extend(pair)
     return told
+
+
+def tell_pair_at(pairs, place):
+    if place >= len(pairs):
+        return [0, 0, 0]
+    return [1] + list(pairs[place])
+
+
+def tell_node(node):
+    if isinstance(node, Leaf):
+        return [1, node.key, node.value]
+    return [2, node.bit, node.left, node.right]

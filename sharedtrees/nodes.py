@@ -48,6 +48,16 @@ class Nodes:
     # A refused write has to leave no trace, not even in the numbering.
     def undo_since(self, made):
         for number in range(made + 1, self.made + 1):
-            node = self.kept.pop(number)
-            self.numbers.pop(node.shape)
+            self.throw_away(number)
         self.made = made
+
+    # Gives back how many are thrown away. They still count as made, so no number is used again.
+    def keep_only(self, needed):
+        unneeded = [number for number in self.kept if number not in needed]
+        for number in unneeded:
+            self.throw_away(number)
+        return len(unneeded)
+
+    def throw_away(self, number):
+        node = self.kept.pop(number)
+        self.numbers.pop(node.shape)

@@ -17,18 +17,32 @@ class Store:
         self.nodes = Nodes()
         self.versions = [Version(NOTHING, ())]
 
+    def is_there(self, version):
+        return version < len(self.versions)
+
     def is_held(self, version):
-        return version < len(self.versions) and self.versions[version].held
+        return self.is_there(version) and self.versions[version].held
 
     def top_of(self, version):
         return self.versions[version].top
+
+    def parents_of(self, version):
+        return self.versions[version].parents
+
+    # The version keeps its place and its parents: lines still lead through it.
+    def drop(self, version):
+        dropped = self.versions[version]
+        dropped.held = False
+
+    def collect(self):
+        return self.nodes.keep_only(self.needed_by(self.held_versions()))
 
     # A parent's number is always below its child's, so one walk downwards meets the whole line.
     def line_of(self, version):
         line = {version: True}
         for number in range(version, -1, -1):
             if number in line:
-                for parent in self.versions[number].parents:
+                for parent in self.parents_of(number):
                     line[parent] = True
         return line
 

@@ -91,6 +91,21 @@ def gather_range(nodes, top, lo, hi, found):
     return count
 
 
+def pairs_between(nodes, top, lo, hi):
+    pairs = []
+    gather_range(nodes, top, lo, hi, pairs)
+    return pairs
+
+
+def depth_of(nodes, top):
+    if top == NOTHING:
+        return 0
+    node = nodes.node(top)
+    if isinstance(node, Leaf):
+        return 1
+    return 1 + max(depth_of(nodes, node.left), depth_of(nodes, node.right))
+
+
 # Adds the numbers of a tree's nodes to the dict needed; what is in it already is not walked again.
 def gather_needed(nodes, top, needed):
     if top == NOTHING or top in needed:

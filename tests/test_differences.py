@@ -1,9 +1,9 @@
-"""Calls 4 diff, 5 patch and 6 join."""
+"""Calls 4 diff, 5 patch, 6 join and 21 inverse."""
 
 import unittest
 
 from tests.helper import FOUR, GREATEST_KEY, GREATEST_VALUE, LEAST_VALUE
-from tests.helper import changes, delete, diff, get, join, listing, nodes, patch, put, run, same
+from tests.helper import changes, delete, diff, get, inverse, join, listing, nodes, patch, put, run, same, versions
 
 
 class Diff(unittest.TestCase):
@@ -139,6 +139,41 @@ class Join(unittest.TestCase):
 
     def test_no_difference_goes_ahead_of_not_joinable(self):
         self.assertEqual(run(join(changes((1, 2, 3)), changes((1, 4, 5), (1, 5, 6)))), [[-5]])
+
+
+class Inverse(unittest.TestCase):
+    def test_before_and_behind_are_exchanged(self):
+        d = changes((1, 2, 3), (4, None, 5), (6, 7, None), (8, 0, -9))
+        back = changes((1, 3, 2), (4, 5, None), (6, None, 7), (8, -9, 0))
+        self.assertEqual(run(inverse(d), inverse(back)), [[4] + back, [4] + d])
+
+    def test_value_of_nought_is_not_a_missing_one(self):
+        self.assertEqual(run(inverse(changes((1, 0, None)))), [[1] + changes((1, None, 0))])
+
+    def test_empty_one(self):
+        self.assertEqual(run(inverse([])), [[0]])
+
+    def test_least_and_greatest(self):
+        d = changes((0, LEAST_VALUE, GREATEST_VALUE), (GREATEST_KEY, None, LEAST_VALUE))
+        back = changes((0, GREATEST_VALUE, LEAST_VALUE), (GREATEST_KEY, LEAST_VALUE, None))
+        self.assertEqual(run(inverse(d)), [[2] + back])
+
+    def test_hundred_changes(self):
+        d = changes(*[(key, key, None) for key in range(100)])
+        self.assertEqual(run(inverse(d)), [[100] + changes(*[(key, None, key) for key in range(100)])])
+
+    def test_leads_back(self):
+        there = changes((1, None, 9), (7, None, 1))
+        back = run(inverse(there))[0][1:]
+        self.assertEqual(run(*FOUR, patch(4, back), same(2, 5), diff(4, 2))[4:], [[5, 0], [1], [1, 2] + back])
+
+    def test_makes_neither_a_version_nor_a_node(self):
+        self.assertEqual(run(inverse(changes((1, None, 2))), versions(), nodes())[1:], [[1, 1], [0, 0, 0]])
+
+    def test_no_difference(self):
+        for rows in ([(2, 1, 2), (1, 1, 2)], [(1, 1, 2), (1, 2, 3)], [(1, 4, 4)], [(1, None, None)],
+                     [(0, 1, 2), (3, 5, 5)]):
+            self.assertEqual(run(inverse(changes(*rows)), versions(), nodes()), [[-5], [1, 1], [0, 0, 0]])
 
 
 if __name__ == "__main__":

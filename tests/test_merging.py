@@ -91,7 +91,7 @@ class Merge(unittest.TestCase):
         store = Store()
         for row in ((0, 1, 10), (1, 1, 11), (1, 1, 12)):
             call_put(store, list(row))
-        store.versions[1].held = False
+        store.drop(1)
         self.assertEqual(call_merge(store, [2, 3]), [-5])
         self.assertEqual((len(store.versions), store.nodes.made), (4, 3))
         self.assertEqual(call_merge(store, [2, 0]), [4, 0, 0])
